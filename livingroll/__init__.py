@@ -1,0 +1,1 @@
+"""Livingroll: group membership by gossip."""

@@ -1,0 +1,68 @@
+"""Sayings: what a member may hold to be true of a seat."""
+
+from livingroll.errors import InvalidSaying
+from livingroll.words import is_below, number_of
+
+MARKS = ("alive", "suspect", "dead", "left")
+LIFE_DIGITS = 60
+MOST_WORTH = 12
+WORTH_SIGNS = "abcdefghijklmnopqrstuvwxyz0123456789"
+
+
+def check_saying(setting, saying):
+    """Return a saying, or raise InvalidSaying if the value is none."""
+    if not is_saying(setting, saying):
+        raise InvalidSaying(saying)
+    return saying
+
+
+def is_saying(setting, value):
+    """Tell whether a value is a saying about a seat of the ring."""
+    if not (isinstance(value, tuple) and len(value) == 4):
+        return False
+    seat, life, mark, worth = value
+    if not (is_below(seat, setting.seats) and is_below(life, 10 ** 60)):
+        return False
+    return mark in MARKS and is_worth(worth)
+
+
+def is_worth(value):
+    """Tell whether a value is a text that a member may show."""
+    if not (isinstance(value, str) and len(value) <= MOST_WORTH):
+        return False
+    return all([sign in WORTH_SIGNS for sign in value])
+
+
+def rank(saying):
+    """Return the place of a saying in the line of all sayings about its seat; 0 for None."""
+    if saying is None:
+        return 0
+    return 4 * saying[1] + MARKS.index(saying[2]) + 1
+
+
+def later(one, other):
+    """Return the later of two sayings about a seat, or one if they have the same rank."""
+    if one[0] != other[0]:
+        raise InvalidSaying(other)
+    return other if rank(other) > rank(one) else one
+
+
+def format_saying(saying):
+    """Return the written form of a saying."""
+    seat, life, mark, worth = saying
+    shown = worth if worth != "" else "-"
+    return f"{seat} {life} {mark} {shown}"
+
+
+def parse_saying(setting, text):
+    """Read the written form of a saying."""
+    words = text.split(" ") if isinstance(text, str) else []
+    if len(words) != 4 or words[3] == "":
+        raise InvalidSaying(text)
+    seat = number_of(words[0], LIFE_DIGITS)
+    life = number_of(words[1], LIFE_DIGITS)
+    worth = words[3] if words[3] != "-" else ""
+    saying = (seat, life, words[2], worth)
+    if not is_saying(setting, saying):
+        raise InvalidSaying(text)
+    return saying

@@ -1,0 +1,21 @@
+"""The one file of helpers: numbers as values and as words."""
+
+
+def is_integer(value):
+    """Tell whether a value is an integer; True and False are another kind."""
+    return isinstance(value, int) and not isinstance(value, bool)
+
+
+def is_below(value, limit):
+    """Tell whether a value is an integer of 0 .. limit - 1."""
+    return is_integer(value) and 0 <= value < limit
+
+
+def number_of(word, digits):
+    """Return the number that a word writes with at most so many digits, or None."""
+    # The length comes first: Python refuses to convert some thousand digits.
+    if len(word) > digits or not (word.isascii() and word.isdigit()):
+        return None
+    if word.startswith("0") and word != "0":
+        return None
+    return int(word)

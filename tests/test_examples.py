@@ -1,0 +1,28 @@
+"""The examples at the end of the document."""
+
+from livingroll.errors import InvalidSetting
+from livingroll.sayings import format_saying, later, rank
+from livingroll.setting import Setting, arc, distance, first_from
+from tests.helpers import Case
+
+
+class Examples(Case):
+    def test_setting(self):
+        self.assertEqual("bits=3 patience=2 room=4 grace=6 helpers=1", str(Setting(3, 2, 4)))
+
+    def test_invalid_setting(self):
+        self.assert_refused(InvalidSetting, "bits", Setting, 9, 1, 4)
+
+    def test_ring(self):
+        setting = Setting(3, 1, 4)
+        told = [distance(setting, 6, 1), first_from(setting, 7, [1, 6]), arc(setting, 6, 2, [0, 1, 2, 5, 7])]
+        self.assertEqual([3, 1, [7, 0, 1, 2]], told)
+
+    def test_rank(self):
+        self.assertEqual([1, 15, 0], [rank((2, 0, "alive", "")), rank((2, 3, "dead", "ab")), rank(None)])
+
+    def test_later(self):
+        self.assertEqual((2, 4, "alive", "ab"), later((2, 3, "dead", "ab"), (2, 4, "alive", "ab")))
+
+    def test_format_saying(self):
+        self.assertEqual("2 4 alive -", format_saying((2, 4, "alive", "")))

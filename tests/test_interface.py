@@ -1,0 +1,89 @@
+"""The interface: names, arguments, and the places in which they are defined."""
+
+import inspect
+import unittest
+from importlib import import_module
+
+ERRORS = {
+    "GroupError": None,
+    "InvalidSetting": "(field)", "InvalidSaying": "(saying)", "InvalidLetter": "(reason)", "InvalidPlan": "(index)",
+    "InvalidKey": "(key)", "InvalidLine": "(line)", "UnknownSeat": "(seat)", "UnknownKey": "(key)",
+    "DeedRefused": "(deed)", "TooMuch": "(limit)",
+    "NoBook": None, "NothingToUndo": None, "NothingToRedo": None,
+}
+
+# For each module its functions and the constructors of its classes, with their arguments (None: not looked at).
+CALLS = {
+    "errors": ERRORS,
+    "setting": {
+        "Setting": "(bits, patience, room, *, grace=6, helpers=1)",
+        "distance": "(setting, seat, other)",
+        "first_from": "(setting, place, held)",
+        "arc": "(setting, low, high, held)",
+    },
+    "sayings": {
+        "check_saying": "(setting, saying)",
+        "rank": "(saying)",
+        "later": "(one, other)",
+        "format_saying": "(saying)",
+        "parse_saying": "(setting, text)",
+    },
+    "letters": {
+        "Letter": "(sender, receiver, beat, number, sayings)",
+        "Ask": "(sender, receiver, beat, number, sayings)",
+        "Answer": "(sender, receiver, beat, number, sayings)",
+        "Probe": "(sender, receiver, beat, number, sayings, about)",
+        "Probed": "(sender, receiver, beat, number, sayings, about, reached)",
+        "Sums": "(sender, receiver, beat, number, sayings, sums, position, more)",
+    },
+}
+
+# For each class what stands in its body: methods with their arguments, "property", or "class method" with arguments.
+BODIES = {
+    "setting.Setting": {
+        "seats": "property", "cycle": "property", "stripes": "property",
+        "of_text": "class method (text)", "__str__": "(self)",
+    },
+    "letters.Letter": {"size": "property", "head": "(self)", "parts": "(self)"},
+    "letters.Ask": {"size": "property", "head": "(self)", "parts": "(self)"},
+    "letters.Answer": {"size": "property", "head": "(self)", "parts": "(self)"},
+    "letters.Probe": {"size": "property", "head": "(self)", "parts": "(self)"},
+    "letters.Probed": {"size": "property", "head": "(self)", "parts": "(self)"},
+    "letters.Sums": {"size": "property", "head": "(self)", "parts": "(self)"},
+}
+
+
+def named(module, name):
+    return getattr(import_module("livingroll." + module), name)
+
+
+def described(owner, name):
+    """Tell what stands in the body of a class under a name."""
+    value = vars(owner)[name]
+    if isinstance(value, property):
+        return "property"
+    if isinstance(value, classmethod):
+        return "class method " + str(inspect.signature(getattr(owner, name)))
+    return str(inspect.signature(value))
+
+
+class Interface(unittest.TestCase):
+    def test_functions_and_classes_have_their_arguments(self):
+        for module, calls in CALLS.items():
+            for name, told in calls.items():
+                with self.subTest(module=module, name=name):
+                    if told is not None:
+                        self.assertEqual(told, str(inspect.signature(named(module, name))))
+
+    def test_functions_and_classes_are_defined_in_their_files(self):
+        for module, calls in CALLS.items():
+            for name in calls:
+                with self.subTest(module=module, name=name):
+                    self.assertEqual("livingroll." + module, named(module, name).__module__)
+
+    def test_methods_stand_in_the_bodies_of_their_classes(self):
+        for place, body in BODIES.items():
+            module, name = place.split(".")
+            for word, told in body.items():
+                with self.subTest(place=place, word=word):
+                    self.assertEqual(told, described(named(module, name), word))

@@ -1,0 +1,179 @@
+"""The rules of ../shared/LANGUAGE.md that can be seen in one file of the package at a time.
+
+The tests look for the plain breaches of a rule; that they pass does not mean that each rule is kept.
+"""
+
+import ast
+import builtins
+import re
+import unittest
+from pathlib import Path
+
+PACKAGE = Path(__file__).resolve().parent.parent / "livingroll"
+
+BUILTINS = set(
+    "len range enumerate zip min max sum abs sorted reversed int str bool bytes list tuple dict set frozenset isinstance "
+    "ord repr any all divmod pow getattr hasattr setattr iter next map super Exception ValueError TypeError KeyError "
+    "IndexError LookupError ZeroDivisionError ArithmeticError OverflowError RuntimeError NotImplementedError "
+    "AttributeError StopIteration NotImplemented property staticmethod classmethod".split()
+)
+DOUBLE = set(
+    "init eq repr str len enter exit call iter lt le gt ge ne add sub mul floordiv mod pow and or xor contains getitem "
+    "setitem neg pos invert abs bool".split()
+)
+METHODS = set(
+    "append clear copy count endswith extend find get index insert isalnum isalpha isdigit islower isspace isupper items "
+    "join keys ljust lower lstrip partition pop remove replace reverse rfind rjust rpartition rsplit rstrip setdefault "
+    "split splitlines startswith strip update upper values zfill bit_length isascii add discard".split()
+)
+LIBRARY = {"heapq", "math", "itertools", "collections"}
+WORDS = re.compile(
+    r"\b(type|typing|enum|Enum|Generic|Protocol|ABC|namedtuple|NamedTuple|TypedDict|abstractmethod|register|mro|elements|"
+    r"open|input|law|global|async|await|chr|eval|exec|id|vars|dir|globals|locals|compile|print)\b"
+)
+
+
+def files():
+    return sorted(PACKAGE.rglob("*.py"))
+
+
+def trees():
+    return [(path, ast.parse(path.read_text(encoding="utf-8"))) for path in files()]
+
+
+def nodes(kind):
+    """All nodes of a kind in the package, each with its place for messages."""
+    return [
+        (node, f"{path.name}:{getattr(node, 'lineno', 0)}")
+        for path, tree in trees()
+        for node in ast.walk(tree)
+        if isinstance(node, kind)
+    ]
+
+
+def without_texts(path):
+    """The text of a file without its comments and strings."""
+    text = re.sub(r'"""(.|\n)*?"""', "", path.read_text(encoding="utf-8"))
+    return re.sub(r"#.*", "", re.sub(r'"(\\.|[^"\\\n])*"', '""', text))
+
+
+def bound_names(function):
+    """The parameters and local variables of a function."""
+    given = function.args
+    names = [arg.arg for arg in (*given.posonlyargs, *given.args, *given.kwonlyargs)]
+    names += [arg.arg for arg in (given.vararg, given.kwarg) if arg]
+    names += [node.id for node in ast.walk(function) if isinstance(node, ast.Name) and isinstance(node.ctx, ast.Store)]
+    return set(names)
+
+
+class Files(unittest.TestCase):
+    def test_names_and_characters(self):
+        found = [path for path in PACKAGE.rglob("*") if "__pycache__" not in path.parts]
+        for path in found:
+            with self.subTest(path=path.name):
+                self.assertRegex(path.name, r"^(__init__|__main__|[a-z][a-z0-9_]*)\.py$")
+                self.assertRegex(path.read_text(encoding="utf-8"), r"\A[ -~\n]*\Z")
+
+    def test_sizes(self):
+        for path in files():
+            lines = path.read_text(encoding="utf-8").split("\n")
+            self.assertLess(len(lines), 400, path.name)
+            self.assertLessEqual(max(len(line) for line in lines), 120, path.name)
+        for node, place in nodes(ast.FunctionDef):
+            self.assertLessEqual(node.end_lineno - node.lineno + 1, 40, place)
+
+    def test_barred_words(self):
+        for path in files():
+            self.assertIsNone(WORDS.search(without_texts(path)), path.name)
+
+    def test_imports_stand_on_top_and_name_files_of_the_package(self):
+        reached = {}
+        for path, tree in trees():
+            kinds = [isinstance(node, ast.ImportFrom) for node in tree.body]
+            self.assertEqual(sorted(kinds[1:], reverse=True), kinds[1:], path.name)
+            sources = [node.module for node in ast.walk(tree) if isinstance(node, ast.ImportFrom)]
+            for source in sources:
+                if source not in LIBRARY:
+                    self.assertTrue((PACKAGE.parent / (source.replace(".", "/") + ".py")).is_file(), path.name)
+            reached["livingroll." + path.stem] = sources
+        self.assertEqual([], nodes(ast.Import))
+        self.assert_no_circle(reached)
+
+    def assert_no_circle(self, reached):
+        left = dict(reached)
+        while left:
+            free = [name for name, sources in left.items() if not set(sources) & set(left)]
+            self.assertTrue(free, f"these import each other: {sorted(left)}")
+            left = {name: sources for name, sources in left.items() if name not in free}
+
+
+class Statements(unittest.TestCase):
+    def test_module_level(self):
+        for path, tree in trees():
+            for node in tree.body[1:]:
+                kinds = (ast.ImportFrom, ast.FunctionDef, ast.ClassDef, ast.Assign)
+                self.assertIsInstance(node, kinds, f"{path.name}:{node.lineno}")
+
+    def test_barred_statements_and_expressions(self):
+        barred = (ast.Global, ast.AsyncFunctionDef, ast.Await, ast.Div, ast.GeneratorExp, ast.TryStar)
+        for kind in barred:
+            self.assertEqual([], [place for _, place in nodes(kind)], kind.__name__)
+
+    def test_constants(self):
+        for node, place in nodes(ast.Constant):
+            self.assertNotIsInstance(node.value, (float, complex), place)
+            if isinstance(node.value, str):
+                self.assertNotIn("%", node.value, place)
+
+    def test_exponents_are_literals(self):
+        for node, place in nodes(ast.BinOp):
+            if isinstance(node.op, ast.Pow):
+                self.assertIsInstance(node.right, ast.Constant, place)
+                self.assertIn(node.right.value, range(65), place)
+
+    def test_is_stands_beside_none_true_and_false(self):
+        for node, place in nodes(ast.Compare):
+            if any(isinstance(op, (ast.Is, ast.IsNot)) for op in node.ops):
+                self.assertIsInstance(node.comparators[0], ast.Constant, place)
+
+    def test_handlers_name_own_errors_or_key_error(self):
+        own = {node.name for node, _ in nodes(ast.ClassDef)} | {"KeyError", "ZeroDivisionError"}
+        for node, place in nodes(ast.ExceptHandler):
+            caught = node.type.elts if isinstance(node.type, ast.Tuple) else [node.type]
+            self.assertLessEqual({name.id for name in caught}, own, place)
+
+
+class Names(unittest.TestCase):
+    def test_double_underscores(self):
+        for node, place in nodes(ast.FunctionDef):
+            if node.name.startswith("__"):
+                self.assertIn(node.name.strip("_"), DOUBLE, place)
+
+    def test_decorators(self):
+        for node, place in nodes((ast.FunctionDef, ast.ClassDef)):
+            for decorator in node.decorator_list:
+                self.assertRegex(ast.unparse(decorator), r"^(property|staticmethod|classmethod|\w+\.setter)$", place)
+
+    def test_builtins(self):
+        barred = set(dir(builtins)) - BUILTINS
+        for node, place in nodes(ast.Name):
+            self.assertNotIn(node.id, barred, place)
+
+    def test_names_of_parameters_and_variables(self):
+        for path, tree in trees():
+            taken = {alias.name for node in tree.body if isinstance(node, ast.ImportFrom) for alias in node.names}
+            taken |= {node.name for node in tree.body if isinstance(node, ast.ClassDef)} | set(dir(builtins))
+            for node in ast.walk(tree):
+                if isinstance(node, ast.FunctionDef):
+                    self.assertEqual(set(), bound_names(node) & taken, f"{path.name}:{node.lineno}")
+
+    def test_methods_that_are_called(self):
+        own = {node.name for node, _ in nodes(ast.FunctionDef)}
+        for node, place in nodes(ast.Call):
+            if isinstance(node.func, ast.Attribute):
+                self.assertIn(node.func.attr, METHODS | own, place)
+
+    def test_no_name_is_a_method_and_an_attribute(self):
+        methods = {node.name for node, _ in nodes(ast.FunctionDef)}
+        stored = {node.attr for node, _ in nodes(ast.Attribute) if isinstance(node.ctx, ast.Store)}
+        self.assertEqual(set(), methods & stored)
