@@ -85,8 +85,8 @@ def first_from(setting, place, held):
 
 def arc(setting, low, high, held):
     """Return the seats of held on the way from low (excluded) to high (included)."""
-    # Counted from behind low, a way from low to low itself is the longest one, not the shortest.
+    # Counted from behind low, the way from low to low itself is the longest one, not the shortest.
     start = low + 1
     span = distance(setting, start, high)
-    met = [seat for seat in held if distance(setting, start, seat) <= span]
-    return sorted(met, key=lambda seat: distance(setting, start, seat))
+    steps = sorted([distance(setting, start, seat) for seat in held])
+    return [(start + step) % setting.seats for step in steps if step <= span]

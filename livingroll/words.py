@@ -1,4 +1,4 @@
-"""The one file of helpers: numbers as values and as words."""
+"""The one file of helpers: numbers as values and as words, and the sum behind the checks of texts."""
 
 
 def is_integer(value):
@@ -19,3 +19,8 @@ def number_of(word, digits):
     if word.startswith("0") and word != "0":
         return None
     return int(word)
+
+
+def weighted_sum(text):
+    """Return the sum of (i + 1) * ord(c) over the characters c of a text with index i."""
+    return sum([place * ord(sign) for place, sign in enumerate(text, start=1)])

@@ -1,6 +1,8 @@
 """The examples at the end of the document."""
 
+from livingroll.book import Book
 from livingroll.errors import InvalidSetting
+from livingroll.plan import fingers, target
 from livingroll.sayings import format_saying, later, rank
 from livingroll.setting import Setting, arc, distance, first_from
 from tests.helpers import Case
@@ -26,3 +28,14 @@ class Examples(Case):
 
     def test_format_saying(self):
         self.assertEqual("2 4 alive -", format_saying((2, 4, "alive", "")))
+
+    def test_joined_books(self):
+        setting = Setting(2, 1, 4)
+        one = Book(setting, [(0, 2, "alive", "a"), (1, 1, "suspect", "")])
+        other = Book(setting, [(1, 1, "dead", ""), (0, 1, "left", "")])
+        self.assertEqual([(0, 2, "alive", "a"), (1, 1, "dead", "")], (one | other).rows())
+
+    def test_plan(self):
+        setting = Setting(3, 1, 4)
+        told = [target(setting, 1, 0, [1, 2, 6]), fingers(setting, 1, [1, 2, 6]), fingers(setting, 6, [1, 2, 6])]
+        self.assertEqual([6, [6, 6, 2], [2, 1, 1]], told)

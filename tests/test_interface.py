@@ -36,6 +36,18 @@ CALLS = {
         "Probed": "(sender, receiver, beat, number, sayings, about, reached)",
         "Sums": "(sender, receiver, beat, number, sayings, sums, position, more)",
     },
+    "wire": {
+        "format_letter": "(letter)",
+        "parse_letter": "(setting, text)",
+    },
+    "book": {"Book": "(setting, sayings=())"},
+    "news": {"News": "(setting)"},
+    "plan": {
+        "phase_of": "(setting, beat)",
+        "target": "(setting, seat, beat, held)",
+        "fingers": "(setting, seat, held)",
+        "plan_rounds": "(setting, held, start, count)",
+    },
 }
 
 # For each class what stands in its body: methods with their arguments, "property", or "class method" with arguments.
@@ -50,6 +62,16 @@ BODIES = {
     "letters.Probe": {"size": "property", "head": "(self)", "parts": "(self)"},
     "letters.Probed": {"size": "property", "head": "(self)", "parts": "(self)"},
     "letters.Sums": {"size": "property", "head": "(self)", "parts": "(self)"},
+    "book.Book": {
+        "take": "(self, saying)", "of": "(self, seat)", "rows": "(self)", "held": "(self)", "marked": "(self, *marks)",
+        "covers": "(self, other)", "ahead_of": "(self, other)", "copy": "(self)", "text": "(self)",
+        "of_text": "class method (setting, text)",
+        "__contains__": "(self, seat)", "__len__": "(self)", "__or__": "(self, other)", "__eq__": "(self, other)",
+    },
+    "news.News": {
+        "note": "(self, saying)", "pick": "(self)", "told": "(self, sayings)", "rows": "(self)", "hot": "(self, seat)",
+        "quiet": "property", "__len__": "(self)",
+    },
 }
 
 
