@@ -4,6 +4,9 @@ from livingroll.errors import InvalidSaying
 from livingroll.words import is_below, number_of
 
 MARKS = ("alive", "suspect", "dead", "left")
+# One above the index of each mark in MARKS. Books are joined by ranks, and an operator must not call
+# `index`, since InvalidPlan has an attribute of that name.
+MARK_RANKS = {"alive": 1, "suspect": 2, "dead": 3, "left": 4}
 LIFE_DIGITS = 60
 MOST_WORTH = 12
 WORTH_SIGNS = "abcdefghijklmnopqrstuvwxyz0123456789"
@@ -37,7 +40,7 @@ def rank(saying):
     """Return the place of a saying in the line of all sayings about its seat; 0 for None."""
     if saying is None:
         return 0
-    return 4 * saying[1] + MARKS.index(saying[2]) + 1
+    return 4 * saying[1] + MARK_RANKS[saying[2]]
 
 
 def later(one, other):

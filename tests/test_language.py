@@ -177,3 +177,85 @@ class Names(unittest.TestCase):
         methods = {node.name for node, _ in nodes(ast.FunctionDef)}
         stored = {node.attr for node, _ in nodes(ast.Attribute) if isinstance(node.ctx, ast.Store)}
         self.assertEqual(set(), methods & stored)
+
+
+PURE = set("eq repr str len lt le gt ge ne add sub mul floordiv mod and or xor neg contains getitem bool".split())
+MODIFYING = set("append clear extend insert pop remove reverse setdefault update add discard sort".split())
+CREATING = (ast.List, ast.Dict, ast.ListComp, ast.DictComp)
+CREATORS = ("list", "dict", "sorted")
+
+
+class Purity(unittest.TestCase):
+    """What an operator, a property, __eq__, __str__, __repr__ or __len__ runs (L5, L18, L28), by names alone."""
+
+    def setUp(self):
+        self.named = {}
+        self.reached = []
+        self.stored = {node.attr for node, _ in nodes(ast.Attribute) if isinstance(node.ctx, ast.Store)}
+        for path, tree in trees():
+            for node in ast.walk(tree):
+                if isinstance(node, ast.FunctionDef):
+                    self.named.setdefault(node.name, []).append((node, path.name))
+                if isinstance(node, ast.ClassDef):
+                    made = [row for row in node.body if isinstance(row, ast.FunctionDef) and row.name == "__init__"]
+                    self.named.setdefault(node.name, []).extend((row, path.name) for row in made)
+        for places in list(self.named.values()):
+            for node, name in places:
+                if self.is_root(node):
+                    self.reach(node, name)
+
+    def is_root(self, node):
+        properties = [row for row in node.decorator_list if isinstance(row, ast.Name) and row.id == "property"]
+        return bool(properties) or (node.name.startswith("__") and node.name.strip("_") in PURE)
+
+    def reach(self, node, name):
+        if any(node is known for known, _ in self.reached):
+            return
+        self.reached.append((node, name))
+        for call in self.calls(node):
+            called = call.func.id if isinstance(call.func, ast.Name) else getattr(call.func, "attr", None)
+            for further, place in self.named.get(called, []):
+                self.reach(further, place)
+
+    def calls(self, node):
+        return [call for call in ast.walk(node) if isinstance(call, ast.Call)]
+
+    def created(self, function, name):
+        """Tell whether each value that a local variable is assigned was made by the function itself."""
+        given = [
+            node.value
+            for node in ast.walk(function)
+            if isinstance(node, ast.Assign) and any(isinstance(at, ast.Name) and at.id == name for at in node.targets)
+        ]
+        calls = [node for node in given if isinstance(node, ast.Call) and isinstance(node.func, ast.Name)]
+        made = [node for node in calls if node.func.id in CREATORS]
+        made += [node for node in given if isinstance(node, CREATING)]
+        return given != [] and len(made) == len(given)
+
+    def test_it_looks_at_what_is_there(self):
+        names = {node.name for node, _ in self.reached}
+        self.assertLessEqual({"__or__", "__eq__", "cycle", "quiet", "latest_of", "rank", "rows"}, names)
+
+    def test_no_name_is_called_that_is_an_attribute(self):
+        for node, name in self.reached:
+            for call in self.calls(node):
+                if isinstance(call.func, ast.Attribute):
+                    self.assertNotIn(call.func.attr, self.stored, f"{name}:{call.lineno}")
+
+    def test_nothing_is_called_that_was_passed_or_is_held(self):
+        for node, name in self.reached:
+            for call in self.calls(node):
+                self.assertIsInstance(call.func, (ast.Name, ast.Attribute), f"{name}:{call.lineno}")
+                if isinstance(call.func, ast.Name):
+                    self.assertNotIn(call.func.id, bound_names(node), f"{name}:{call.lineno}")
+
+    def test_nothing_is_changed_that_was_not_created_there(self):
+        for function, name in self.reached:
+            for node in ast.walk(function):
+                place = f"{name}:{getattr(node, 'lineno', 0)}"
+                if isinstance(node, ast.Attribute) and not isinstance(node.ctx, ast.Load):
+                    self.assertEqual(["__init__", "self"], [function.name, getattr(node.value, "id", "")], place)
+                if isinstance(node, ast.Subscript) and not isinstance(node.ctx, ast.Load):
+                    self.assertTrue(self.created(function, getattr(node.value, "id", "")), place)
+                if isinstance(node, ast.Call) and getattr(node.func, "attr", "") in MODIFYING:
+                    self.assertTrue(self.created(function, getattr(node.func.value, "id", "")), place)
