@@ -28,6 +28,36 @@ def fingers(setting, seat, held):
     return [phase_target(setting, seat, phase, held) for phase in reversed(range(setting.bits))]
 
 
+def phase_tables(setting, held):
+    """Return for each phase, from 0 up, a dict from each seat of held that has a target to it."""
+    met = first_met(setting, held)
+    return [table_of(setting, phase, held, met) for phase in range(setting.bits)]
+
+
+def table_of(setting, phase, held, met):
+    """Return a dict from each seat of held that has a target in a phase to it."""
+    offset = 1 << phase
+    table = {}
+    for seat in held:
+        found = met[(seat + offset) % setting.seats]
+        if distance(setting, seat, found) >= offset:
+            table[seat] = found
+    return table
+
+
+def first_met(setting, held):
+    """Return for each place of the ring the seat of held that is met first from it on."""
+    here = {seat: True for seat in held}
+    met = [None] * setting.seats
+    found = None
+    places = list(reversed(range(setting.seats)))
+    # Behind the last seat of held comes the first one, which the first way around has not met yet.
+    for place in places + places:
+        found = place if place in here else found
+        met[place] = found
+    return met
+
+
 def plan_rounds(setting, held, start, count):
     """Yield for each beat the pairs (seat, target) of the seats of held that have a target."""
     seats = sorted(held)

@@ -1,10 +1,13 @@
 """The examples at the end of the document."""
 
 from livingroll.book import Book
-from livingroll.errors import InvalidSetting
+from livingroll.bounds import quick_bound
+from livingroll.errors import InvalidPlan, InvalidSetting
+from livingroll.papers import explain_paper, judge_plan
 from livingroll.plan import fingers, target
 from livingroll.sayings import format_saying, later, rank
 from livingroll.setting import Setting, arc, distance, first_from
+from livingroll.spread import rounds_to_all
 from tests.helpers import Case
 
 
@@ -39,3 +42,20 @@ class Examples(Case):
         setting = Setting(3, 1, 4)
         told = [target(setting, 1, 0, [1, 2, 6]), fingers(setting, 1, [1, 2, 6]), fingers(setting, 6, [1, 2, 6])]
         self.assertEqual([6, [6, 6, 2], [2, 1, 1]], told)
+
+    def test_rounds_to_all(self):
+        setting = Setting(3, 1, 4)
+        told = [rounds_to_all(setting, [0, 3, 5, 7], [3], start, []) for start in (1, 0)]
+        self.assertEqual([5, 3], told)
+
+    def test_quick_bound(self):
+        self.assertEqual([3, 6, 11], [quick_bound(Setting(*row, 4)) for row in ((1, 3), (2, 2), (3, 2))])
+
+    def test_judged_plan(self):
+        self.assertEqual((2, 2), judge_plan([4, 1, 7], 4, [[(4, 1)], [(4, 7)]]))
+
+    def test_refused_plan(self):
+        self.assert_refused(InvalidPlan, 1, judge_plan, [4, 1, 7], 4, [[(4, 1)], [(7, 1)]])
+
+    def test_explained_paper(self):
+        self.assertEqual(([[0]], []), explain_paper(Setting(2, 1, 4), [0, 1, 2], 0, 0, {}, 1))

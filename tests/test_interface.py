@@ -48,6 +48,35 @@ CALLS = {
         "fingers": "(setting, seat, held)",
         "plan_rounds": "(setting, held, start, count)",
     },
+    "spread": {
+        "Spread": "(setting, held, origins, start, *, tellings=None, shifts=None)",
+        "is_fair": "(setting, held, start, lost, *, shifts=None)",
+        "rounds_to_all": "(setting, held, origins, start, lost, *, tellings=None, shifts=None)",
+    },
+    "bounds": {
+        "quick_bound": "(setting)",
+        "loose_bound": "(setting)",
+        "telling_bound": "(setting)",
+        "worst_case": "(setting)",
+        "short_case": "(setting)",
+    },
+    "papers": {
+        "least_rounds": "(count)",
+        "least_letters": "(count)",
+        "tree_plan": "(seats)",
+        "judge_plan": "(seats, origin, plan)",
+        "explain_paper": "(setting, held, origin, start, seen, count)",
+    },
+    "probing": {
+        "Tour": "(setting, seat, *, behind=None)",
+        "Misses": "(setting)",
+        "Doubts": "(setting)",
+        "helpers_for": "(setting, seat, about, alive)",
+    },
+    "ranges": {
+        "moments": "(book, low, width)",
+        "clash": "(book, other)",
+    },
 }
 
 # For each class what stands in its body: methods with their arguments, "property", or "class method" with arguments.
@@ -71,6 +100,15 @@ BODIES = {
     "news.News": {
         "note": "(self, saying)", "pick": "(self)", "told": "(self, sayings)", "rows": "(self)", "hot": "(self, seat)",
         "quiet": "property", "__len__": "(self)",
+    },
+    "spread.Spread": {
+        "done": "property", "stuck": "property",
+        "step": "(self, lost=())", "known": "(self)", "since": "(self, seat)",
+    },
+    "probing.Tour": {"aim": "(self, names)", "report": "(self, passed)"},
+    "probing.Misses": {"miss": "(self, seat, kind)", "heard": "(self, seat)", "count": "(self, seat, kind)"},
+    "probing.Doubts": {
+        "doubt": "(self, seat, life, now)", "lift": "(self, seat)", "since": "(self, seat)", "due": "(self, book, now)",
     },
 }
 
