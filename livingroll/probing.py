@@ -14,6 +14,7 @@ class Tour:
         self.failed = 0
         self._last = seat if behind is None else behind
         self._goes_on = False
+        self._passes = {}
 
     def aim(self, names):
         """Return the seat of names to try now, or None if there is none."""
@@ -33,9 +34,15 @@ class Tour:
         """Take the result of the try that the last aim gave."""
         if not self._goes_on:
             return
-        if not passed:
+        if passed:
+            self._passes[self.current] = self.passes(self.current) + 1
+        else:
             self.failed += 1
         self._goes_on = not passed and self.failed < self.setting.patience
+
+    def passes(self, seat):
+        """Return how many tries to a seat passed since the tour was made."""
+        return self._passes.get(seat, 0)
 
 
 class Misses:

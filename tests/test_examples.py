@@ -3,6 +3,8 @@
 from livingroll.book import Book
 from livingroll.bounds import quick_bound
 from livingroll.errors import InvalidPlan, InvalidSetting
+from livingroll.exchange import reconcile
+from livingroll.mending import disk_line
 from livingroll.papers import explain_paper, judge_plan
 from livingroll.plan import fingers, target
 from livingroll.sayings import format_saying, later, rank
@@ -59,3 +61,13 @@ class Examples(Case):
 
     def test_explained_paper(self):
         self.assertEqual(([[0]], []), explain_paper(Setting(2, 1, 4), [0, 1, 2], 0, 0, {}, 1))
+
+    def test_reconciled_books(self):
+        setting = Setting(2, 1, 2)
+        one = Book(setting, [(0, 2, "alive", "a")])
+        other = Book(setting, [(3, 1, "dead", "")])
+        first, second, _ = reconcile(setting, one, other)
+        self.assertEqual([[(0, 2, "alive", "a"), (3, 1, "dead", "")], True], [first.rows(), second == first])
+
+    def test_disk_line(self):
+        self.assertEqual("end 0 0989\n", disk_line("end 0"))

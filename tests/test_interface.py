@@ -77,6 +77,20 @@ CALLS = {
         "moments": "(book, low, width)",
         "clash": "(book, other)",
     },
+    "exchange": {
+        "Side": "(setting, book, taker=None)",
+        "reconcile": "(setting, book, other, *, stripe=0)",
+        "item_bound": "(setting, differing)",
+        "letter_bound": "(setting, differing)",
+    },
+    "mending": {
+        "disk_line": "(body)",
+        "mend_area": "(setting, text)",
+        "mended": "(setting, areas)",
+        "restore": "(setting, areas)",
+    },
+    "disk": {"Disk": None},
+    "member": {"Member": None},
 }
 
 # For each class what stands in its body: methods with their arguments, "property", or "class method" with arguments.
@@ -109,6 +123,21 @@ BODIES = {
     "probing.Misses": {"miss": "(self, seat, kind)", "heard": "(self, seat)", "count": "(self, seat, kind)"},
     "probing.Doubts": {
         "doubt": "(self, seat, life, now)", "lift": "(self, seat)", "since": "(self, seat)", "due": "(self, book, now)",
+    },
+    "exchange.Side": {
+        "begin": "(self, stripe)", "next_items": "(self)", "receive": "(self, sayings, sums)", "idle": "property",
+    },
+    "disk.Disk": {
+        "fresh": "class method (setting, rows)", "reopened": "class method (setting, areas)",
+        "pending": "property", "log_lines": "property",
+        "append": "(self, saying)", "rewrite": "(self, rows)", "flush": "(self)", "crash": "(self, keep)",
+        "areas": "(self)",
+    },
+    "member.Member": {
+        "founder": "class method (setting, seat, founders)", "joiner": "class method (setting, seat, sponsor)",
+        "returned": "class method (setting, seat, areas)", "life": "property", "gone": "property",
+        "learn": "(self, saying, source)", "put": "(self, worth)", "leave": "(self)", "suspect": "(self, seat)",
+        "quick": "(self)", "answer": "(self, ask)", "hear": "(self, letter)", "slow": "(self)", "end_round": "(self)",
     },
 }
 
