@@ -92,7 +92,7 @@ def reconcile(setting, book, other, *, stripe=0):
     called = Side(setting, second)
     caller.begin(stripe)
     letters = 0
-    while letters == 0 or not (caller.idle and called.idle):
+    while not (caller.idle and called.idle):
         hand_over(caller, called)
         hand_over(called, caller)
         letters += 2

@@ -279,17 +279,16 @@ class Facts(Case):
 
     def test_every_keep(self):
         draw = random.Random(33)
-        for _ in range(40):
+        for _ in range(20):
             steps = self.drawn_steps(draw)
-            pending = None
-            keep = 0
-            while pending is None or keep <= pending:
+            keep = pending = 0
+            while keep <= pending + 1:
                 disk = fresh()
                 flushed, written = self.done(disk, Book(SETTING, ROWS), steps)
                 pending = disk.pending
                 disk.crash(keep)
                 self.assert_between(flushed, written, disk.areas())
-                keep += draw.randrange(1, 9)
+                keep += 1
 
     def test_several_crashes(self):
         draw = random.Random(34)

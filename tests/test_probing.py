@@ -160,7 +160,7 @@ class Interrupted(TourCase):
 
     def test_a_report_without_a_visit_that_goes_on(self):
         tour = Tour(SETTING, 4)
-        for passed in (True, False):
+        for passed in (False, True, False):
             tour.report(passed)
             self.assert_tour(tour, None, 0)
         self.assertEqual(6, tour.aim([1, 6]))
