@@ -3,7 +3,7 @@
 from livingroll.book import Book
 from livingroll.disk import Disk
 from livingroll.errors import DeedRefused
-from livingroll.letters import Answer, Ask
+from livingroll.letters import Answer, Ask, Probe, Probed
 from livingroll.mending import restore
 from livingroll.news import News
 from livingroll.plan import target
@@ -151,9 +151,23 @@ class Member:
 
     def hear(self, letter):
         """Learn what a letter says."""
-        self.beat = max(self.beat, letter.beat)
+        self.catch_up(letter)
         for saying in letter.sayings:
             self.learn(saying, letter.sender)
+
+    def catch_up(self, letter):
+        """Go on with the beat of a letter if it is greater than the own one."""
+        self.beat = max(self.beat, letter.beat)
+
+    def probe(self, helper, about):
+        """Return the Probe that asks a helper to try a seat."""
+        self.calls += 1
+        return Probe(self.seat, helper, self.beat, self.calls, [], about)
+
+    def probed(self, probe, reached):
+        """Hear a Probe and return the Probed."""
+        self.hear(probe)
+        return Probed(self.seat, probe.sender, self.beat, probe.number, [], probe.about, reached)
 
     def slow(self):
         """Return the seat that the slow call of this round goes to, or None."""
@@ -166,6 +180,12 @@ class Member:
     def stripe(self, seat):
         """Return the stripe of the next slow call to a seat; each one that passed makes it the next stripe."""
         return self.tour.passes(seat) % self.setting.stripes
+
+    def welcomed(self):
+        """A slow call passed: a newcomer is none any longer, and tells its own saying anew."""
+        if self.newcomer:
+            self.newcomer = False
+            self.news.note(self.book.of(self.seat))
 
     def end_round(self):
         """Do what stands at the end of each own round."""

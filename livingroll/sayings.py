@@ -1,7 +1,7 @@
 """Sayings: what a member may hold to be true of a seat."""
 
 from livingroll.errors import InvalidSaying
-from livingroll.words import is_below, number_of
+from livingroll.words import is_below, is_plain, number_of
 
 MARKS = ("alive", "suspect", "dead", "left")
 # One above the index of each mark in MARKS. Books are joined by ranks, and an operator must not call
@@ -9,7 +9,6 @@ MARKS = ("alive", "suspect", "dead", "left")
 MARK_RANKS = {"alive": 1, "suspect": 2, "dead": 3, "left": 4}
 LIFE_DIGITS = 60
 MOST_WORTH = 12
-WORTH_SIGNS = "abcdefghijklmnopqrstuvwxyz0123456789"
 
 
 def check_saying(setting, saying):
@@ -31,9 +30,7 @@ def is_saying(setting, value):
 
 def is_worth(value):
     """Tell whether a value is a text that a member may show."""
-    if not (isinstance(value, str) and len(value) <= MOST_WORTH):
-        return False
-    return all([sign in WORTH_SIGNS for sign in value])
+    return is_plain(value, MOST_WORTH)
 
 
 def rank(saying):

@@ -1,4 +1,6 @@
-"""The one file of helpers: numbers as values and as words, and the sum behind the checks of texts."""
+"""The one file of helpers: numbers as values and as words, plain texts, and the sum behind the checks of texts."""
+
+PLAIN_SIGNS = "abcdefghijklmnopqrstuvwxyz0123456789"
 
 
 def is_integer(value):
@@ -9,6 +11,13 @@ def is_integer(value):
 def is_below(value, limit):
     """Tell whether a value is an integer of 0 .. limit - 1."""
     return is_integer(value) and 0 <= value < limit
+
+
+def is_plain(value, most):
+    """Tell whether a value is a text of at most so many characters, each a lower-case letter or a digit."""
+    if not (isinstance(value, str) and len(value) <= most):
+        return False
+    return all([sign in PLAIN_SIGNS for sign in value])
 
 
 def number_of(word, digits):

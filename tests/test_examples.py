@@ -2,8 +2,10 @@
 
 from livingroll.book import Book
 from livingroll.bounds import quick_bound
+from livingroll.calm import settle_bound
 from livingroll.errors import InvalidPlan, InvalidSetting
 from livingroll.exchange import reconcile
+from livingroll.keys import keeper, place_of
 from livingroll.mending import disk_line
 from livingroll.papers import explain_paper, judge_plan
 from livingroll.plan import fingers, target
@@ -71,3 +73,10 @@ class Examples(Case):
 
     def test_disk_line(self):
         self.assertEqual("end 0 0989\n", disk_line("end 0"))
+
+    def test_settle_bound(self):
+        self.assertEqual(35, settle_bound(Setting(2, 2, 4, grace=3), 4, 4))
+
+    def test_keys(self):
+        setting = Setting(3, 1, 4)
+        self.assertEqual([1, 5], [place_of(setting, "ab"), keeper(setting, "ab", [0, 5])])

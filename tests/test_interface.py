@@ -91,6 +91,22 @@ CALLS = {
     },
     "disk": {"Disk": None},
     "member": {"Member": None},
+    "losses": {"Losses": "()", "DrawnLosses": "(digits)", "FairLosses": "(digits, patience)"},
+    "world": {"World": "(setting, *groups, drift=1, wire=False)"},
+    "calm": {
+        "is_fair_since": "(world, t)",
+        "linked": "(world)",
+        "names_held": "(world)",
+        "settle_bound": "(setting, names, living, *, drift=1)",
+        "settled": "(world)",
+        "change_bound": "(kind, setting, names)",
+    },
+    "keys": {
+        "place_of": "(setting, key)",
+        "keeper": "(setting, key, alive)",
+        "shares": "(setting, alive)",
+        "moved": "(setting, keys, before, after)",
+    },
 }
 
 # For each class what stands in its body: methods with their arguments, "property", or "class method" with arguments.
@@ -138,6 +154,19 @@ BODIES = {
         "returned": "class method (setting, seat, areas)", "life": "property", "gone": "property",
         "learn": "(self, saying, source)", "put": "(self, worth)", "leave": "(self)", "suspect": "(self, seat)",
         "quick": "(self)", "answer": "(self, ask)", "hear": "(self, letter)", "slow": "(self)", "end_round": "(self)",
+    },
+    "losses.Losses": {"__call__": "(self, caller, called, kind)"},
+    "losses.DrawnLosses": {"__call__": "(self, caller, called, kind)"},
+    "losses.FairLosses": {"__call__": "(self, caller, called, kind)"},
+    "world.World": {
+        "clock": "property", "tick": "(self, losses=None, *, asleep=())",
+        "admit": "(self, seat, sponsor)", "leave": "(self, seat)", "put": "(self, seat, worth)",
+        "crash": "(self, seat, *, keep=0)", "revive": "(self, seat)", "sever": "(self, one, other)",
+        "mend": "(self, one, other)", "divide": "(self, *groups)", "heal": "(self)", "stray": "(self, index)",
+        "introduce": "(self, seat, other)", "history": "(self)",
+        "living": "(self)", "up": "(self)", "used": "(self)", "book_of": "(self, seat)", "roll_of": "(self, seat)",
+        "life_of": "(self, seat)", "beat_of": "(self, seat)", "worth_of": "(self, seat)", "areas_of": "(self, seat)",
+        "letters": "(self)", "letter": "(self, index)", "tries": "(self, since=0)", "journals": "(self)",
     },
 }
 
