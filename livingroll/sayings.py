@@ -50,19 +50,30 @@ def later(one, other):
 def format_saying(saying):
     """Return the written form of a saying."""
     seat, life, mark, worth = saying
-    shown = worth if worth != "" else "-"
+    shown = format_worth(worth)
     return f"{seat} {life} {mark} {shown}"
 
 
 def parse_saying(setting, text):
     """Read the written form of a saying."""
     words = text.split(" ") if isinstance(text, str) else []
-    if len(words) != 4 or words[3] == "":
+    if len(words) != 4:
         raise InvalidSaying(text)
     seat = number_of(words[0], LIFE_DIGITS)
     life = number_of(words[1], LIFE_DIGITS)
-    worth = words[3] if words[3] != "-" else ""
-    saying = (seat, life, words[2], worth)
+    saying = (seat, life, words[2], parse_worth(words[3]))
     if not is_saying(setting, saying):
         raise InvalidSaying(text)
     return saying
+
+
+def format_worth(worth):
+    """Return the word that stands for a worth."""
+    return worth if worth != "" else "-"
+
+
+def parse_worth(word):
+    """Return the worth that a word stands for, or None."""
+    if word == "-":
+        return ""
+    return word if word != "" and is_worth(word) else None

@@ -90,6 +90,12 @@ class Awake(Case):
         world.tick(asleep=[6, 0, 9])
         self.assertEqual([True] * 3, fair(world))
 
+    def test_nobody_lives(self):
+        world = World(SETTING, [1])
+        world.crash(1)
+        world.tick()
+        self.assertEqual([True] * 2, fair(world))
+
 
 class Heard(Case):
     def lost(self, patience, answers, kind="quick", setting=None):

@@ -3,7 +3,8 @@
 from livingroll.book import Book
 from livingroll.bounds import quick_bound
 from livingroll.calm import settle_bound
-from livingroll.errors import InvalidPlan, InvalidSetting
+from livingroll.desk import Desk
+from livingroll.errors import DeedRefused, InvalidPlan, InvalidSetting
 from livingroll.exchange import reconcile
 from livingroll.keys import keeper, place_of
 from livingroll.mending import disk_line
@@ -12,6 +13,7 @@ from livingroll.plan import fingers, target
 from livingroll.sayings import format_saying, later, rank
 from livingroll.setting import Setting, arc, distance, first_from
 from livingroll.spread import rounds_to_all
+from livingroll.watch import Watch
 from tests.helpers import Case
 
 
@@ -80,3 +82,17 @@ class Examples(Case):
     def test_keys(self):
         setting = Setting(3, 1, 4)
         self.assertEqual([1, 5], [place_of(setting, "ab"), keeper(setting, "ab", [0, 5])])
+
+    def test_watch(self):
+        book = Book(Setting(2, 1, 4), [(0, 2, "alive", "a"), (3, 1, "dead", "")])
+        self.assertEqual([(0, "joined", 2, "a"), (3, "dead", 1, "")], Watch().see(book))
+
+    def test_desk(self):
+        desk = Desk(Setting(2, 1, 4, grace=2), [0, 2])
+        desk.do("put 0 ab")
+        desk.do("tick")
+        self.assertEqual("  0 up          1     2 0:ab,2:-\n  2 up          1     1 0:ab,2:-\n", desk.show())
+
+    def test_refused_line(self):
+        desk = Desk(Setting(2, 1, 4), [0, 2])
+        self.assert_refused(DeedRefused, ("put", 1, "ab"), desk.do, "put 1 ab")

@@ -4,6 +4,8 @@ import inspect
 import unittest
 from importlib import import_module
 
+from livingroll.setting import Setting
+
 ERRORS = {
     "GroupError": None,
     "InvalidSetting": "(field)", "InvalidSaying": "(saying)", "InvalidLetter": "(reason)", "InvalidPlan": "(index)",
@@ -107,6 +109,16 @@ CALLS = {
         "shares": "(setting, alive)",
         "moved": "(setting, keys, before, after)",
     },
+    "shelf": {"Shelf": "(setting)"},
+    "watch": {"Watch": "()", "replayed": "(events)"},
+    "twin": {"Twin": "(founders)"},
+    "judge": {
+        "wrong_entries": "(journals, *, partial=())",
+        "first_wrong": "(journals, *, partial=())",
+        "explains": "(journals, seats, *, partial=())",
+        "least_liars": "(journals, *, partial=())",
+    },
+    "desk": {"Desk": "(setting, founders)"},
 }
 
 # For each class what stands in its body: methods with their arguments, "property", or "class method" with arguments.
@@ -168,7 +180,27 @@ BODIES = {
         "life_of": "(self, seat)", "beat_of": "(self, seat)", "worth_of": "(self, seat)", "areas_of": "(self, seat)",
         "letters": "(self)", "letter": "(self, index)", "tries": "(self, since=0)", "journals": "(self)",
     },
+    "shelf.Shelf": {
+        "enter": "(self, key, text)", "drop": "(self, key)", "duties": "(self, book)", "rows": "(self)",
+        "total": "property", "merged": "(self, *others, keep=True)",
+    },
+    "watch.Watch": {
+        "see": "(self, book)", "changes": "(self, kind=None)", "pause": "(self)", "resume": "(self)", "paused": "property",
+    },
+    "twin.Twin": {"follow": "(self, deed)", "living": "(self)", "behind": "static method (founders, history)"},
+    "desk.Desk": {
+        "do": "(self, line)", "undo": "(self)", "redo": "(self)", "lines": "(self)", "most": "property",
+        "change": "(self, name, value)", "show": "(self)", "__str__": "(self)", "tried": "(self, lines)",
+        "trial": "(self)", "world": "(self)", "settle": "(self)",
+    },
 }
+
+# What each object of a class has as an attribute when it was made.
+ATTRIBUTES = {
+    "losses.Losses": ("asked",), "losses.DrawnLosses": ("asked",), "losses.FairLosses": ("asked",),
+    "world.World": ("drift",),
+}
+MADE_OF = {"DrawnLosses": ([1],), "FairLosses": ([1], 2), "World": (Setting(3, 1, 4), [1, 4])}
 
 
 def named(module, name):
@@ -180,6 +212,8 @@ def described(owner, name):
     value = vars(owner)[name]
     if isinstance(value, property):
         return "property"
+    if isinstance(value, staticmethod):
+        return "static method " + str(inspect.signature(getattr(owner, name)))
     if isinstance(value, classmethod):
         return "class method " + str(inspect.signature(getattr(owner, name)))
     return str(inspect.signature(value))
@@ -205,3 +239,14 @@ class Interface(unittest.TestCase):
             for word, told in body.items():
                 with self.subTest(place=place, word=word):
                     self.assertEqual(told, described(named(module, name), word))
+
+    def test_objects_have_their_attributes(self):
+        for place, names in ATTRIBUTES.items():
+            module, name = place.split(".")
+            made = named(module, name)(*MADE_OF.get(name, ()))
+            self.assertLessEqual(set(names), set(vars(made)), place)
+
+    def test_generators(self):
+        for module, owner, name in (("watch", "Watch", "changes"), ("plan", None, "plan_rounds")):
+            function = getattr(named(module, owner), name) if owner else named(module, name)
+            self.assertTrue(inspect.isgeneratorfunction(function), name)

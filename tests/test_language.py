@@ -51,6 +51,11 @@ def nodes(kind):
     ]
 
 
+def last_word(decorator):
+    """The name of a decorator, or the last one of a dotted name."""
+    return getattr(decorator, "attr", getattr(decorator, "id", ""))
+
+
 def without_texts(path):
     """The text of a file without its comments and strings."""
     text = re.sub(r'"""(.|\n)*?"""', "", path.read_text(encoding="utf-8"))
@@ -174,7 +179,9 @@ class Names(unittest.TestCase):
                 self.assertIn(node.func.attr, METHODS | own, place)
 
     def test_no_name_is_a_method_and_an_attribute(self):
-        methods = {node.name for node, _ in nodes(ast.FunctionDef)}
+        # A property with a setter is stored by its name, and that name is no method.
+        setters = {node.name for node, _ in nodes(ast.FunctionDef) if "setter" in map(last_word, node.decorator_list)}
+        methods = {node.name for node, _ in nodes(ast.FunctionDef)} - setters
         stored = {node.attr for node, _ in nodes(ast.Attribute) if isinstance(node.ctx, ast.Store)}
         self.assertEqual(set(), methods & stored)
 

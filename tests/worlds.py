@@ -253,19 +253,30 @@ def drawn_losses(draw, setting):
     return draw.choice(kinds)()
 
 
+def drawn_seat(draw, world, fitting):
+    """A seat that fits mostly, and any seat of the ring otherwise."""
+    return draw.choice(fitting) if fitting and draw.random() < 0.85 else draw.randrange(world.setting.seats)
+
+
 def drawn_deed(draw, world):
     """A deed other than a tick, which may be refused."""
     seats = range(world.setting.seats)
-    seat, other = draw.choice(seats), draw.choice(seats)
-    word = draw.choice("join leave put put crash crash revive revive cut mend split heal stray stray introduce".split())
-    if word == "leave" and draw.random() < 0.5:
-        word = "put"
+    used, living = world.used(), world.living()
+    word = draw.choice("join put put put crash crash revive revive cut mend split heal stray stray introduce".split())
+    if word == "put" and draw.random() < 0.2:
+        word = "leave"
     if word == "put":
-        return (word, seat, draw.choice(WORTHS))
+        return (word, drawn_seat(draw, world, living), draw.choice(WORTHS))
+    if word == "leave":
+        return (word, drawn_seat(draw, world, living))
     if word == "crash":
-        return (word, seat, draw.choice((0, 1, 7, 40, 10 ** 6)))
-    if word in ("leave", "revive"):
-        return (word, seat)
+        return (word, drawn_seat(draw, world, world.up()), draw.choice((0, 1, 7, 40, 10 ** 6)))
+    if word == "revive":
+        return (word, drawn_seat(draw, world, [seat for seat in used if seat not in world.up()]))
+    if word == "join":
+        return (word, drawn_seat(draw, world, [seat for seat in seats if seat not in used]), drawn_seat(draw, world, used))
+    if word == "introduce":
+        return (word, drawn_seat(draw, world, living), drawn_seat(draw, world, used))
     if word == "split":
         mixed = draw.sample(seats, draw.randrange(2, len(seats) + 1))
         at = draw.randrange(1, len(mixed))
@@ -274,7 +285,7 @@ def drawn_deed(draw, world):
         return (word,)
     if word == "stray":
         return (word, draw.randrange(world.letters() + 1))
-    return (word, seat, other)
+    return (word, draw.choice(seats), draw.choice(seats))
 
 
 def drawn_run(draw, world, steps, tick_share=0.6, losses=None):
