@@ -68,7 +68,7 @@ def reason_of(owner, entry, before, is_behind, said, partial):
     seat, _, mark, source = entry
     if source is None and is_behind:
         return "kept"
-    if before is not None and rank(entry) <= rank(before):
+    if rank(entry) <= rank(before):
         return "rise"
     if source == owner and seat == owner and mark not in ("alive", "left"):
         return "own"
@@ -105,14 +105,14 @@ def least_liars(journals, *, partial=()):
 
 
 def suspects_of(journals, partial):
-    """Return for each wrong entry the tuple of the seats of which at least one has lied."""
+    """Return the groups of seats of which at least one has lied, each one once, for all wrong entries."""
     groups = []
     for owner, run_index, index, reason in wrong_entries(journals, partial=partial):
         if reason == "source":
             groups.append((owner, journals[owner][run_index][index][3]))
         else:
             groups.append((owner,))
-    return groups
+    return sorted(set(groups))
 
 
 def is_explained(groups, seats):

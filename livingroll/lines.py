@@ -38,7 +38,6 @@ class NamedLosses(Losses):
 def read_line(setting, line):
     """Return the first word of a line and the values that it tells, as a list; raise InvalidLine if it has no form."""
     words = line.split(" ") if isinstance(line, str) else [""]
-    values = None
     if words[0] == "tick":
         values = tick_values(setting, words[1:])
     elif words[0] == "split":
@@ -115,7 +114,8 @@ def do_line(world, values):
     elif word == "mend":
         world.mend(rest[0], rest[1])
     elif word == "split":
-        world.divide(*rest[0])
+        groups = rest[0]
+        world.divide(*groups)
     elif word == "heal":
         world.heal()
     elif word == "stray":

@@ -247,8 +247,10 @@ class Errors(DeskCase):
         self.assertEqual(["heal"], desk.lines())
 
     def test_two_hundred_lines_at_first(self):
-        desk = self.made(*["heal"] * 200)
+        desk = Desk(SETTING, FOUNDERS)
         self.assertEqual(200, desk.most)
+        for _ in range(200):
+            desk.do("heal")
         self.assert_unchanged(TooMuch, 200, desk, desk.do, "heal")
 
 

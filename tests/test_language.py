@@ -148,6 +148,42 @@ class Statements(unittest.TestCase):
             self.assertLessEqual({name.id for name in caught}, own, place)
 
 
+    def test_starred_arguments_are_names_and_attributes(self):
+        for node, place in nodes(ast.Call):
+            for arg in node.args:
+                if isinstance(arg, ast.Starred):
+                    self.assertRegex(ast.unparse(arg.value), r"^\w+(\.\w+)?$", place)
+            self.assertNotIn(None, [keyword.arg for keyword in node.keywords], place)
+
+    def test_sets_stand_in_sorted_and_len_and_behind_in(self):
+        for path, tree in trees():
+            walked = list(ast.walk(tree))
+            calls = [node for node in walked if isinstance(node, ast.Call)]
+            free = [arg for node in calls if ast.unparse(node.func) in ("sorted", "len") for arg in node.args]
+            free += [side for node in walked if isinstance(node, ast.Compare) for side in node.comparators]
+            sets = [node for node in walked if isinstance(node, (ast.Set, ast.SetComp))]
+            for node in sets + [node for node in calls if ast.unparse(node.func) == "set"]:
+                self.assertTrue(any(node is other for other in free), f"{path.name}:{node.lineno}")
+
+    def test_what_a_loop_goes_over_is_not_changed_in_it(self):
+        for node, place in nodes(ast.For):
+            told = ast.unparse(node.iter)
+            for other in ast.walk(node):
+                if isinstance(other, ast.Call) and getattr(other.func, "attr", "") in MODIFYING:
+                    self.assertNotEqual(told, ast.unparse(other.func.value), place)
+                if isinstance(other, ast.Subscript) and not isinstance(other.ctx, ast.Load):
+                    self.assertNotEqual(told, ast.unparse(other.value), place)
+
+    def test_the_rows_of_exit(self):
+        found = [node for node, _ in nodes(ast.FunctionDef) if node.name == "__exit__"]
+        self.assertEqual(1, len(found))
+        for row in [row for node in found for row in node.body]:
+            self.assertIsInstance(row, ast.Assign)
+            for side in (*row.targets, row.value):
+                self.assertRegex(ast.unparse(side), r"^\w+(\.\w+)*$")
+            self.assertRegex(ast.unparse(row.targets[0]), r"^\w+(\.\w+)?$")
+
+
 class Names(unittest.TestCase):
     def test_double_underscores(self):
         for node, place in nodes(ast.FunctionDef):

@@ -72,6 +72,14 @@ class Looks(Case):
         world.tick(asleep=[4])
         self.assertEqual(before, world.areas_of(4))
 
+    def test_states_and_cuts(self):
+        world = mixed()
+        self.assertEqual(["up", "up", "leaving", "down", "gone"], [world.state_of(seat) for seat in range(5)])
+        for seat in (5, 8, -1):
+            self.assert_refused(UnknownSeat, seat, world.state_of, seat)
+        world.sever(0, 5)
+        self.assertEqual([True, False, False], [world.is_cut(0, 5), world.is_cut(5, 0), world.is_cut(0, 0)])
+
     def test_letters(self):
         world = mixed()
         self.assertGreater(world.letters(), 5)
