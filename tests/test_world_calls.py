@@ -469,9 +469,9 @@ class Stripes(unittest.TestCase):
 class Newcomers(unittest.TestCase):
     """Seat 0 joins by 2 and knows of 3. With room 1 an Ask picks the saying that was told least."""
 
-    def extras(self, world, answers):
-        """What seat 0 tells in its Asks to 2 behind the greetings, if its slow calls are lost like this."""
-        losses = Scripted({(0, 2, "slow"): answers, (0, 3, "slow"): 0})
+    def extras(self, world, answers, further=0):
+        """What seat 0 tells in its Asks to 2 behind the greetings, if its slow calls to 2 and to 3 are lost like this."""
+        losses = Scripted({(0, 2, "slow"): answers, (0, 3, "slow"): further})
         start = world.letters()
         for _ in range(4):
             world.tick(losses, asleep=[2, 3])
@@ -479,11 +479,11 @@ class Newcomers(unittest.TestCase):
         self.assertEqual([("ask", 0, 2)] * 4, routes(asks))
         return [[saying[0] for saying in letter.sayings[2:]] for letter in asks]
 
-    def joined(self, answers):
+    def joined(self, answers, further=0):
         world = World(Setting(2, 2, 1, helpers=0), [2, 3])
         world.admit(0, 2)
         world.introduce(0, 3)
-        return self.extras(world, answers)
+        return self.extras(world, answers, further)
 
     def test_the_own_saying_is_hot_again_behind_the_first_passed_slow_call(self):
         # Ask 0 tells the own saying. If that one counts from 0 again it is told once more, ahead of 2 and 3.
@@ -495,7 +495,7 @@ class Newcomers(unittest.TestCase):
         self.assertEqual([[], [], [], [3]], self.joined([0, None, 0, 0]))
 
     def test_further_slow_calls_change_nothing(self):
-        self.assertEqual([[], [], [], [3]], self.joined([None, None, None, None]))
+        self.assertEqual([[], [], [], [3]], self.joined([None] * 4, None))
 
     def test_a_returned_member(self):
         for lost, told in ((None, [[], [], [3]]), (0, [[], [3], []])):
