@@ -13,7 +13,7 @@ class Net:
         self.states = {}
         self._cuts = {}
         self._wire = wire
-        self._record = []
+        self._letters = []
 
     def place(self, member):
         """Let a new member be up."""
@@ -47,21 +47,21 @@ class Net:
 
     def carry(self, letter, lost):
         """Record a letter; return it as it arrives, or None if it is lost or cannot arrive."""
-        self._record.append(format_letter(letter) if self._wire else letter)
+        self._letters.append(format_letter(letter) if self._wire else letter)
         if lost or not (self.is_up(letter.receiver) and self.is_open(letter.sender, letter.receiver)):
             return None
         return self.recorded(self.sent() - 1)
 
     def sent(self):
         """Return the number of letters that were sent."""
-        return len(self._record)
+        return len(self._letters)
 
     def recorded(self, index):
         """Return a letter of the record, as it arrives."""
-        kept = self._record[index]
+        kept = self._letters[index]
         return parse_letter(self.setting, kept) if self._wire else kept
 
     def written(self, index):
         """Return the written form of a letter of the record."""
-        kept = self._record[index]
+        kept = self._letters[index]
         return kept if self._wire else format_letter(kept)

@@ -9,6 +9,8 @@ import re
 import unittest
 from pathlib import Path
 
+from tests.plain_names import barred_in, is_barred
+
 PACKAGE = Path(__file__).resolve().parent.parent / "livingroll"
 
 BUILTINS = set(
@@ -220,6 +222,101 @@ class Names(unittest.TestCase):
         methods = {node.name for node, _ in nodes(ast.FunctionDef)} - setters
         stored = {node.attr for node, _ in nodes(ast.Attribute) if isinstance(node.ctx, ast.Store)}
         self.assertEqual(set(), methods & stored)
+
+
+# L12: the names that are barred, also with digits or underscores behind them.
+BARRED_NAMES = ("_cold", "_tuplegetter", "_outside", "_record", "_written_out", "_member_names")
+# Each place in which a name may stand, the name written as NAME.
+PLACES = (
+    "NAME = 1",
+    "def NAME():\n    return 1",
+    "def count(NAME, many=1):\n    return many",
+    "def count(many, *, NAME=1):\n    return many",
+    "def count(*NAME):\n    return 1",
+    "def count(**NAME):\n    return 1",
+    "def count():\n    NAME = 1",
+    "def count():\n    return NAME",
+    "def count(many):\n    many, *NAME = many",
+    "def count(many):\n    return many(NAME=1)",
+    "def count(many: NAME):\n    return many",
+    "def count(many):\n    def NAME():\n        return many",
+    "def count(many):\n    return lambda NAME: many",
+    "def count(many):\n    return [1 for NAME in many]",
+    "def count(many):\n    for _, NAME in many:\n        return 1",
+    "def count(many):\n    if (NAME := many):\n        return 1",
+    "def count(many):\n    with many() as NAME:\n        return 1",
+    "def count(many):\n    try:\n        return 1\n    except KeyError as NAME:\n        return 2",
+    "def count(many):\n    match many:\n        case [*NAME]:\n            return 1",
+    "def count(many):\n    match many:\n        case 1 as NAME:\n            return 1",
+    "def count(many):\n    match many:\n        case Box(NAME=1):\n            return 1",
+    "def count(many):\n    return f'{NAME}'",
+    "def count(many):\n    return getattr(many, 'NAME')",
+    "def count(box):\n    return box.NAME[0]",
+    "def count(box):\n    box.NAME = 1",
+    "class NAME:\n    many = 1",
+    "class Box(NAME):\n    many = 1",
+    "class Box:\n    NAME = 1",
+    "class Box:\n    __slots__ = ('NAME',)",
+    "class Box:\n    def NAME(self):\n        return 1",
+    "class Box:\n    @property\n    def NAME(self):\n        return 1",
+    "class Box:\n    def __init__(self):\n        self.NAME = []",
+    "from livingroll.NAME import many",
+    "from livingroll.box import NAME",
+    "from livingroll.box import many as NAME",
+)
+
+
+class PlainNames(unittest.TestCase):
+    """L12, in the package and in texts that break it."""
+
+    def found(self, name, place):
+        """What is found with a name in a place."""
+        return [word for _, word in barred_in(place.replace("NAME", name))]
+
+    def test_the_package(self):
+        for path in files():
+            self.assertEqual([], barred_in(path.read_text(encoding="utf-8")), path.name)
+            self.assertFalse(is_barred(path.stem), path.name)
+
+    def test_barred_names_are_found_in_each_place(self):
+        for name in BARRED_NAMES:
+            for behind in ("", "_", "1", "20", "__", "_3", "4_"):
+                for place in PLACES:
+                    self.assertEqual([name + behind], self.found(name + behind, place), place)
+
+    def test_barred_beginnings_are_found_in_each_place(self):
+        for start in ("_pe_", "_dcw_", "_enum_", "_cm_", "_twin_re_", "_lay_", "_law_", "_stub_", "_sre", "_WallAttr"):
+            for place in PLACES:
+                self.assertEqual([start + "rows"], self.found(start + "rows", place), place)
+
+    def test_names_near_to_barred_ones_are_free(self):
+        classless = [place for place in PLACES if "class NAME" not in place]
+        for name in ("_records", "_recorded", "_cold_war", "_a_record", "record", "_rows", "_law", "_cut", "__name__"):
+            for place in classless if name.startswith("_") else PLACES:
+                self.assertEqual([], self.found(name, place), place)
+
+    def test_walls_are_free_as_attributes_and_methods_alone(self):
+        free = [place for place in PLACES if re.search(r"self|box\.NAME|'NAME'", place)]
+        for place in PLACES:
+            self.assertEqual([] if place in free else ["_walls"], self.found("_walls", place), place)
+
+    def test_words_that_stand_nowhere(self):
+        for name in ("_wall", "_WallAttr"):
+            for text in ("many = 1  # the NAME", "many = 'a NAME here'", "'''Rows.\n\nThe NAME.\n'''", "# box.NAME"):
+                self.assertEqual([name], self.found(name, text), text)
+            self.assertEqual([], [place for place in PLACES if name not in self.found(name, place)])
+        self.assertEqual([], barred_in("many = 1  # the walls, the_wall and _walls"))
+
+    def test_names_of_another_form(self):
+        for name in ("__rows", "__", "_1", "_4rows"):
+            for place in PLACES:
+                self.assertEqual([] if "'NAME'" in place else [name], self.found(name, place), place)
+        self.assertEqual([(1, "_Box")], barred_in("class _Box:\n    many = 1"))
+
+    def test_a_lone_underscore_is_assigned_and_not_read(self):
+        self.assertEqual([], barred_in("def count(_, many):\n    for _ in many:\n        return 1"))
+        self.assertEqual([(2, "_")], barred_in("def count(_):\n    return _"))
+        self.assertEqual([(1, "_")], barred_in("def _():\n    return 1"))
 
 
 PURE = set("eq repr str len lt le gt ge ne add sub mul floordiv mod and or xor neg contains getitem bool".split())
